@@ -1,0 +1,312 @@
+package tests
+
+import (
+	"fmt"
+	"go/ast"
+	"go/parser"
+	"go/token"
+	"go/types"
+	"path/filepath"
+	"testing"
+)
+
+// checker looks through the files of one package for what the subset of Go leaves out.
+type checker struct {
+	files   *token.FileSet
+	info    *types.Info
+	callees map[*ast.Ident]bool
+	found   []string
+}
+
+func (c *checker) report(n ast.Node, what string) {
+	c.found = append(c.found, fmt.Sprintf("%s: %s", c.files.Position(n.Pos()), what))
+}
+
+// outsideSubset tells where files, which make up one package, leave the subset.
+func outsideSubset(set *token.FileSet, files []*ast.File) []string {
+	c := &checker{
+		files:   set,
+		info:    &types.Info{Uses: map[*ast.Ident]types.Object{}, Types: map[ast.Expr]types.TypeAndValue{}},
+		callees: map[*ast.Ident]bool{},
+	}
+	// A package with an import does not pass, so none has to be found for it.
+	config := types.Config{Error: func(error) {}}
+	config.Check("impl", set, files, c.info)
+	for _, file := range files {
+		c.checkTop(file)
+		ast.Inspect(file, c.noteCallee)
+		ast.Inspect(file, c.checkNode)
+	}
+	c.checkFunctionValues()
+	return c.found
+}
+
+func (c *checker) checkTop(file *ast.File) {
+	if file.Name.Name != "impl" {
+		c.report(file, "another package")
+	}
+	for _, spec := range file.Imports {
+		c.report(spec, "an import")
+	}
+	for _, d := range file.Decls {
+		if g, ok := d.(*ast.GenDecl); ok && g.Tok == token.VAR {
+			c.report(g, "a package-level variable")
+		}
+		if f, ok := d.(*ast.FuncDecl); ok {
+			c.checkFunc(f)
+		}
+	}
+}
+
+func (c *checker) checkFunc(f *ast.FuncDecl) {
+	if f.Name.Name == "init" && f.Recv == nil {
+		c.report(f, "func init")
+	}
+	if f.Type.TypeParams != nil {
+		c.report(f, "a generic function")
+	}
+}
+
+// noteCallee keeps the names that are called, so that any other use of a function is one as a value.
+func (c *checker) noteCallee(n ast.Node) bool {
+	call, ok := n.(*ast.CallExpr)
+	if !ok {
+		return true
+	}
+	switch f := call.Fun.(type) {
+	case *ast.Ident:
+		c.callees[f] = true
+	case *ast.SelectorExpr:
+		c.callees[f.Sel] = true
+	}
+	return true
+}
+
+func (c *checker) checkFunctionValues() {
+	for name, object := range c.info.Uses {
+		if _, ok := object.(*types.Func); ok && !c.callees[name] {
+			c.report(name, "a function as a value")
+		}
+	}
+}
+
+func (c *checker) checkNode(n ast.Node) bool {
+	switch n := n.(type) {
+	case *ast.FuncDecl:
+		// The type of a function that is declared is no function value; its parts are looked at by themselves.
+		c.checkParts(n)
+		return false
+	case *ast.TypeSpec:
+		if n.TypeParams != nil {
+			c.report(n, "a generic type")
+		}
+	case *ast.InterfaceType:
+		c.report(n, "an interface type")
+	case *ast.TypeSwitchStmt, *ast.TypeAssertExpr:
+		c.report(n, "a question about a type")
+	case *ast.FuncLit, *ast.FuncType:
+		c.report(n, "a function value")
+	case *ast.MapType:
+		c.report(n, "a map")
+	case *ast.GoStmt, *ast.ChanType, *ast.SendStmt, *ast.SelectStmt, *ast.DeferStmt:
+		c.report(n, "something at the same time, or later")
+	case *ast.BranchStmt:
+		if n.Tok == token.GOTO {
+			c.report(n, "a goto")
+		}
+	case *ast.Ident:
+		c.checkName(n)
+	case *ast.BasicLit:
+		if n.Kind == token.FLOAT || n.Kind == token.IMAG {
+			c.report(n, "a number that is not whole")
+		}
+	case *ast.AssignStmt:
+		c.checkAssign(n)
+	case *ast.SliceExpr:
+		if n.Slice3 {
+			c.report(n, "a slice expression with three indexes")
+		}
+	case *ast.BinaryExpr:
+		c.checkNil(n)
+	}
+	return true
+}
+
+func (c *checker) checkParts(f *ast.FuncDecl) {
+	if f.Recv != nil {
+		ast.Inspect(f.Recv, c.checkNode)
+	}
+	ast.Inspect(f.Type.Params, c.checkNode)
+	if f.Type.Results != nil {
+		ast.Inspect(f.Type.Results, c.checkNode)
+	}
+	if f.Body != nil {
+		ast.Inspect(f.Body, c.checkNode)
+	}
+}
+
+func (c *checker) checkName(name *ast.Ident) {
+	object := c.info.Uses[name]
+	if object == nil || object.Parent() != types.Universe {
+		return
+	}
+	switch name.Name {
+	case "any", "error", "comparable":
+		c.report(name, "an interface type")
+	case "panic", "recover", "cap":
+		c.report(name, "the built-in function "+name.Name)
+	case "float32", "float64", "complex64", "complex128", "complex", "real", "imag":
+		c.report(name, "a number that is not whole")
+	}
+}
+
+// checkAssign lets locals be written several at once, and elements and fields one at a time.
+func (c *checker) checkAssign(a *ast.AssignStmt) {
+	if len(a.Lhs) < 2 {
+		return
+	}
+	for _, to := range a.Lhs {
+		if _, ok := to.(*ast.Ident); !ok {
+			c.report(a, "elements or fields among several that are written at once")
+		}
+	}
+}
+
+func (c *checker) checkNil(b *ast.BinaryExpr) {
+	if b.Op != token.EQL && b.Op != token.NEQ {
+		return
+	}
+	left, right := c.info.Types[b.X], c.info.Types[b.Y]
+	if right.IsNil() && isSlice(left.Type) || left.IsNil() && isSlice(right.Type) {
+		c.report(b, "a slice that is compared with nil")
+	}
+}
+
+func isSlice(t types.Type) bool {
+	if t == nil {
+		return false
+	}
+	_, ok := t.Underlying().(*types.Slice)
+	return ok
+}
+
+func parseProgram(t *testing.T) (*token.FileSet, []*ast.File) {
+	t.Helper()
+	paths, err := filepath.Glob("../impl/*.go")
+	if err != nil || len(paths) == 0 {
+		t.Fatalf("no files of the program: %v", err)
+	}
+	set := token.NewFileSet()
+	files := []*ast.File{}
+	for _, path := range paths {
+		file, err := parser.ParseFile(set, path, nil, parser.SkipObjectResolution)
+		if err != nil {
+			t.Fatal(err)
+		}
+		files = append(files, file)
+	}
+	return set, files
+}
+
+func TestTheProgramKeepsToTheSubset(t *testing.T) {
+	for _, found := range outsideSubset(parseProgram(t)) {
+		t.Error(found)
+	}
+}
+
+// inSubset parses a piece of a program and tells what is found in it.
+func inSubset(t *testing.T, source string) []string {
+	t.Helper()
+	set := token.NewFileSet()
+	file, err := parser.ParseFile(set, "piece.go", "package impl\n"+source, parser.SkipObjectResolution)
+	if err != nil {
+		t.Fatalf("%s: %v", source, err)
+	}
+	return outsideSubset(set, []*ast.File{file})
+}
+
+func TestWhatIsOutsideTheSubsetIsFound(t *testing.T) {
+	sources := []string{
+		"import \"strconv\"\nfunc f(n int) string { return strconv.Itoa(n) }",
+		"var table = []int{1}",
+		"func init() {}",
+		"type shape interface{ area() int }",
+		"func f(x any) {}",
+		"func f() error { return nil }",
+		"func f() { g := func() {}; g() }",
+		"func f() {}\nfunc g() { h := f; h() }",
+		"type s struct{}\nfunc (x s) m() {}\nfunc g(x s) { h := x.m; h() }",
+		"type s struct{ f func() }",
+		"func f(m map[int]int) {}",
+		"func f() { go f() }",
+		"func f(c chan int) {}",
+		"func f() { select {} }",
+		"func f() { defer f() }",
+		"func f() { panic(1) }",
+		"func f() { recover() }",
+		"func f() {\nagain:\n\tgoto again\n}",
+		"func f[T int](x T) {}",
+		"type s[T int] struct{ x T }",
+		"func f(x float64) {}",
+		"const half = 0.5",
+		"const i = 1i",
+		"func f(a []int) { a[0], a[1] = a[1], a[0] }",
+		"func f(a []int) int { return cap(a) }",
+		"func f(a []int) []int { return a[0:1:1] }",
+		"func f(a []int) bool { return a == nil }",
+	}
+	for _, source := range sources {
+		if len(inSubset(t, source)) == 0 {
+			t.Errorf("nothing was found in %q", source)
+		}
+	}
+}
+
+func TestWhatIsInTheSubsetIsLeftAlone(t *testing.T) {
+	sources := []string{
+		"const most = 3\nfunc f(n int) int { return n % most }",
+		"type s struct{ a []int }\nfunc (x s) m() int { return len(x.a) }\nfunc f(x s) int { return x.m() }",
+		"func f(x, y int) int { x, y = y, x; return x - y }",
+		"func f() (int, bool) { return 1, true }\nfunc g() int { n, ok := f(); if !ok { return 0 }; return n }",
+		"func f(cap int) int { return cap }",
+		"func f(a []int) []int { b := append([]int{}, a[1:]...); return b }",
+	}
+	for _, source := range sources {
+		for _, found := range inSubset(t, source) {
+			t.Errorf("%q: %s", source, found)
+		}
+	}
+}
+
+// operatorsOf tells which binary operators the body of a function of the program has.
+func operatorsOf(t *testing.T, name string) map[token.Token]bool {
+	t.Helper()
+	operators := map[token.Token]bool{}
+	note := func(n ast.Node) bool {
+		if b, ok := n.(*ast.BinaryExpr); ok {
+			operators[b.Op] = true
+		}
+		return true
+	}
+	_, files := parseProgram(t)
+	for _, file := range files {
+		for _, d := range file.Decls {
+			if f, ok := d.(*ast.FuncDecl); ok && f.Name.Name == name {
+				ast.Inspect(f, note)
+			}
+		}
+	}
+	return operators
+}
+
+func TestWordsAreTakenApartByDivision(t *testing.T) {
+	operators := operatorsOf(t, "InsFrom")
+	if !operators[token.QUO] || !operators[token.REM] {
+		t.Error("InsFrom does not divide")
+	}
+	for _, bits := range []token.Token{token.AND, token.OR, token.XOR, token.AND_NOT, token.SHL, token.SHR} {
+		if operators[bits] {
+			t.Errorf("InsFrom has %s", bits)
+		}
+	}
+}
