@@ -278,7 +278,22 @@ func TestWhatIsInTheSubsetIsLeftAlone(t *testing.T) {
 	}
 }
 
-// operatorsOf tells which binary operators the body of a function of the program has.
+// functionsOf has the functions of the program with a name.
+func functionsOf(t *testing.T, name string) []*ast.FuncDecl {
+	t.Helper()
+	found := []*ast.FuncDecl{}
+	_, files := parseProgram(t)
+	for _, file := range files {
+		for _, d := range file.Decls {
+			if f, ok := d.(*ast.FuncDecl); ok && f.Name.Name == name {
+				found = append(found, f)
+			}
+		}
+	}
+	return found
+}
+
+// operatorsOf tells which binary operators a function of the program has.
 func operatorsOf(t *testing.T, name string) map[token.Token]bool {
 	t.Helper()
 	operators := map[token.Token]bool{}
@@ -288,25 +303,53 @@ func operatorsOf(t *testing.T, name string) map[token.Token]bool {
 		}
 		return true
 	}
-	_, files := parseProgram(t)
-	for _, file := range files {
-		for _, d := range file.Decls {
-			if f, ok := d.(*ast.FuncDecl); ok && f.Name.Name == name {
-				ast.Inspect(f, note)
-			}
-		}
+	for _, f := range functionsOf(t, name) {
+		ast.Inspect(f, note)
 	}
 	return operators
 }
 
 func TestWordsAreTakenApartByDivision(t *testing.T) {
-	operators := operatorsOf(t, "InsFrom")
-	if !operators[token.QUO] || !operators[token.REM] {
-		t.Error("InsFrom does not divide")
-	}
-	for _, bits := range []token.Token{token.AND, token.OR, token.XOR, token.AND_NOT, token.SHL, token.SHR} {
-		if operators[bits] {
-			t.Errorf("InsFrom has %s", bits)
+	for _, name := range []string{"InsFrom", "EntryFrom"} {
+		operators := operatorsOf(t, name)
+		if !operators[token.QUO] || !operators[token.REM] {
+			t.Errorf("%s does not divide", name)
 		}
+		for _, bits := range []token.Token{token.AND, token.OR, token.XOR, token.AND_NOT, token.SHL, token.SHR} {
+			if operators[bits] {
+				t.Errorf("%s has %s", name, bits)
+			}
+		}
+	}
+}
+
+// isEntryOf tells whether a node reads an entry (EntryFrom) out of an element of the slice with that name.
+func isEntryOf(n ast.Node, slice string) bool {
+	call, ok := n.(*ast.CallExpr)
+	if !ok || len(call.Args) != 1 {
+		return false
+	}
+	if f, ok := call.Fun.(*ast.Ident); !ok || f.Name != "EntryFrom" {
+		return false
+	}
+	element, ok := call.Args[0].(*ast.IndexExpr)
+	if !ok {
+		return false
+	}
+	of, ok := element.X.(*ast.Ident)
+	return ok && of.Name == slice
+}
+
+func TestTablesLieInMemory(t *testing.T) {
+	found := false
+	note := func(n ast.Node) bool {
+		found = found || isEntryOf(n, "mem")
+		return true
+	}
+	for _, f := range functionsOf(t, "Walk") {
+		ast.Inspect(f, note)
+	}
+	if !found {
+		t.Error("Walk reads no entry out of the memory")
 	}
 }
