@@ -353,3 +353,40 @@ func TestTablesLieInMemory(t *testing.T) {
 		t.Error("Walk reads no entry out of the memory")
 	}
 }
+
+// calledFrom has the names of the functions that a function of the program calls, and those that they call.
+func calledFrom(t *testing.T, name string) map[string]bool {
+	t.Helper()
+	called := map[string]bool{}
+	rest := []string{name}
+	note := func(n ast.Node) bool {
+		call, ok := n.(*ast.CallExpr)
+		if !ok {
+			return true
+		}
+		if f, ok := call.Fun.(*ast.Ident); ok && !called[f.Name] {
+			called[f.Name] = true
+			rest = append(rest, f.Name)
+		}
+		return true
+	}
+	for len(rest) > 0 {
+		next := rest[0]
+		rest = rest[1:]
+		for _, f := range functionsOf(t, next) {
+			ast.Inspect(f, note)
+		}
+	}
+	return called
+}
+
+func TestAStepIsAWalkAndAnInstruction(t *testing.T) {
+	for _, name := range []string{"BareStep", "BareRun"} {
+		called := calledFrom(t, name)
+		for _, part := range []string{"Walk", "InsFrom", "InsKernel"} {
+			if !called[part] {
+				t.Errorf("%s does not come to %s", name, part)
+			}
+		}
+	}
+}
