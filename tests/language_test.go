@@ -390,3 +390,29 @@ func TestAStepIsAWalkAndAnInstruction(t *testing.T) {
 		}
 	}
 }
+
+// readsField tells whether a function of the program reads, or writes, a field with that name.
+func readsField(t *testing.T, function string, field string) bool {
+	t.Helper()
+	found := false
+	note := func(n ast.Node) bool {
+		s, ok := n.(*ast.SelectorExpr)
+		found = found || ok && s.Sel.Name == field
+		return true
+	}
+	for _, f := range functionsOf(t, function) {
+		ast.Inspect(f, note)
+	}
+	return found
+}
+
+func TestAMemoryOfAGuestIsPutTogetherFromFrames(t *testing.T) {
+	found := false
+	for name := range calledFrom(t, "HostView") {
+		takesFrames := readsField(t, name, "Frame") && calledFrom(t, name)["copy"]
+		found = found || takesFrames
+	}
+	if !found {
+		t.Error("HostView copies nothing out of frames")
+	}
+}
