@@ -416,3 +416,28 @@ func TestAMemoryOfAGuestIsPutTogetherFromFrames(t *testing.T) {
 		t.Error("HostView copies nothing out of frames")
 	}
 }
+
+// comesToField tells whether a function of the program, or one that it comes to, reads or writes a field with that name.
+func comesToField(t *testing.T, function string, field string) bool {
+	t.Helper()
+	if readsField(t, function, field) {
+		return true
+	}
+	for name := range calledFrom(t, function) {
+		if readsField(t, name, field) {
+			return true
+		}
+	}
+	return false
+}
+
+func TestATableOfAGuestAndItsSlotsArePutTogether(t *testing.T) {
+	for _, name := range []string{"ShadowOf", "ShadowWalk"} {
+		if !calledFrom(t, name)["EntryFrom"] || !comesToField(t, name, "Root") {
+			t.Errorf("%s does not come to the guest's table", name)
+		}
+		if !comesToField(t, name, "Pages") || !comesToField(t, name, "Frame") {
+			t.Errorf("%s does not come to the guest's slots", name)
+		}
+	}
+}
