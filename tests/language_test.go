@@ -441,3 +441,25 @@ func TestATableOfAGuestAndItsSlotsArePutTogether(t *testing.T) {
 		}
 	}
 }
+
+func TestEachExitIsAnswered(t *testing.T) {
+	exits, steps := calledFrom(t, "GuestExit"), calledFrom(t, "HostStep")
+	for _, part := range []string{"InsFrom", "InsKernel"} {
+		if !exits[part] {
+			t.Errorf("GuestExit does not come to %s", part)
+		}
+	}
+	for _, part := range []string{"HostFill", "HostCopy", "InsFrom", "InsKernel"} {
+		if !steps[part] {
+			t.Errorf("HostStep does not come to %s", part)
+		}
+	}
+	for _, name := range []string{"GuestExit", "HostStep"} {
+		if calledFrom(t, name)["Walk"] {
+			t.Errorf("%s goes by the tables of the guest alone", name)
+		}
+		if !comesToField(t, name, "Frame") || !comesToField(t, name, "Ready") {
+			t.Errorf("%s does not come to the shadow table", name)
+		}
+	}
+}
