@@ -463,3 +463,19 @@ func TestEachExitIsAnswered(t *testing.T) {
 		}
 	}
 }
+
+func TestLinesAreARowInOrder(t *testing.T) {
+	for _, name := range []string{"TagsOk", "TagWalk"} {
+		if !calledFrom(t, name)["EntryFrom"] || !comesToField(t, name, "Frame") || !comesToField(t, name, "Root") {
+			t.Errorf("%s does not come to the shadow table", name)
+		}
+		for _, field := range []string{"Tag", "At", "What"} {
+			if !comesToField(t, name, field) {
+				t.Errorf("%s does not come to the %s of lines", name, field)
+			}
+		}
+	}
+	if !calledFrom(t, "TagWalk")["append"] {
+		t.Error("TagWalk puts no line behind others")
+	}
+}
