@@ -479,3 +479,17 @@ func TestLinesAreARowInOrder(t *testing.T) {
 		t.Error("TagWalk puts no line behind others")
 	}
 }
+
+func TestTurnsAreNumbersOfGuests(t *testing.T) {
+	if !calledFrom(t, "HostRun")["HostStep"] {
+		t.Error("HostRun does no steps")
+	}
+	for name := range calledFrom(t, "FairTurns") {
+		if operatorsOf(t, name)[token.QUO] {
+			t.Errorf("%s divides, where FairTurns compares exactly", name)
+		}
+	}
+	if operatorsOf(t, "FairTurns")[token.QUO] || !calledFrom(t, "FairTurns")["append"] {
+		t.Error("FairTurns does not put turns behind each other without dividing")
+	}
+}
