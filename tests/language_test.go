@@ -493,3 +493,35 @@ func TestTurnsAreNumbersOfGuests(t *testing.T) {
 		t.Error("FairTurns does not put turns behind each other without dividing")
 	}
 }
+
+// ownParts has the functions of the program to which a function comes, but for those to which the question whether a host is ok comes, too.
+func ownParts(t *testing.T, name string) []string {
+	t.Helper()
+	asked := calledFrom(t, "HostOk")
+	parts := []string{}
+	for part := range calledFrom(t, name) {
+		if !asked[part] && len(functionsOf(t, part)) > 0 {
+			parts = append(parts, part)
+		}
+	}
+	return parts
+}
+
+func TestFramesWithTheSameWordsAreFoundByLookingAtAll(t *testing.T) {
+	compares, reads := false, false
+	for _, part := range ownParts(t, "HostShare") {
+		operators := operatorsOf(t, part)
+		compares = compares || operators[token.EQL] || operators[token.NEQ]
+		reads = reads || readsField(t, part, "Words") && readsField(t, part, "Frame")
+	}
+	if !compares || !reads {
+		t.Errorf("HostShare compares words: %v, and comes to those of frames: %v", compares, reads)
+	}
+	for _, name := range []string{"HostShare", "HostZero"} {
+		for _, part := range []string{"HostFill", "HostCopy", "HostStep"} {
+			if calledFrom(t, name)[part] {
+				t.Errorf("%s comes to %s, and does not look at frames alone", name, part)
+			}
+		}
+	}
+}
