@@ -525,3 +525,21 @@ func TestFramesWithTheSameWordsAreFoundByLookingAtAll(t *testing.T) {
 		}
 	}
 }
+
+func TestSlotsOfClonesAreCopiedAndTheirFramesAreShared(t *testing.T) {
+	slots := false
+	for _, part := range append(ownParts(t, "HostClone"), "HostClone") {
+		slots = slots || readsField(t, part, "Pages") && calledFrom(t, part)["copy"]
+	}
+	if !slots || !comesToField(t, "HostClone", "Write") || !comesToField(t, "HostClone", "Dirty") {
+		t.Error("HostClone does not copy slots, and tell what may be written, and was")
+	}
+	for _, part := range []string{"HostFill", "HostCopy", "HostBoot", "HostBack", "HostFree", "HostView", "freeFrames", "withPages"} {
+		if calledFrom(t, "HostClone")[part] {
+			t.Errorf("HostClone comes to %s, and does not share frames alone", part)
+		}
+	}
+	if !calledFrom(t, "HostBack")["copy"] || !comesToField(t, "HostBack", "Frame") || !comesToField(t, "HostGive", "Frame") {
+		t.Error("HostBack and HostGive do not come to frames")
+	}
+}
