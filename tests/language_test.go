@@ -7,6 +7,7 @@ import (
 	"go/token"
 	"go/types"
 	"path/filepath"
+	"sync"
 	"testing"
 )
 
@@ -190,22 +191,39 @@ func isSlice(t types.Type) bool {
 	return ok
 }
 
-func parseProgram(t *testing.T) (*token.FileSet, []*ast.File) {
-	t.Helper()
+// parsed has the files of the program, or why they cannot be read.
+type parsed struct {
+	set   *token.FileSet
+	files []*ast.File
+	err   error
+}
+
+// parseOnce is there because the tests of this file ask for the functions of the program thousands of times.
+var parseOnce = sync.OnceValue(parseFiles)
+
+func parseFiles() parsed {
 	paths, err := filepath.Glob("../impl/*.go")
 	if err != nil || len(paths) == 0 {
-		t.Fatalf("no files of the program: %v", err)
+		return parsed{err: fmt.Errorf("no files of the program: %v", err)}
 	}
-	set := token.NewFileSet()
-	files := []*ast.File{}
+	p := parsed{set: token.NewFileSet()}
 	for _, path := range paths {
-		file, err := parser.ParseFile(set, path, nil, parser.SkipObjectResolution)
+		file, err := parser.ParseFile(p.set, path, nil, parser.SkipObjectResolution)
 		if err != nil {
-			t.Fatal(err)
+			return parsed{err: err}
 		}
-		files = append(files, file)
+		p.files = append(p.files, file)
 	}
-	return set, files
+	return p
+}
+
+func parseProgram(t *testing.T) (*token.FileSet, []*ast.File) {
+	t.Helper()
+	p := parseOnce()
+	if p.err != nil {
+		t.Fatal(p.err)
+	}
+	return p.set, p.files
 }
 
 func TestTheProgramKeepsToTheSubset(t *testing.T) {
@@ -541,5 +559,27 @@ func TestSlotsOfClonesAreCopiedAndTheirFramesAreShared(t *testing.T) {
 	}
 	if !calledFrom(t, "HostBack")["copy"] || !comesToField(t, "HostBack", "Frame") || !comesToField(t, "HostGive", "Frame") {
 		t.Error("HostBack and HostGive do not come to frames")
+	}
+}
+
+func TestWhatIsLeftIsASetOfPages(t *testing.T) {
+	for _, name := range []string{"MoveOk", "MoveDo", "MoveEnd", "MoveAll"} {
+		if !comesToField(t, name, "Left") {
+			t.Errorf("%s does not come to what is left", name)
+		}
+	}
+	for _, part := range []string{"MoveBegin", "MoveDo", "MoveEnd"} {
+		if !calledFrom(t, "MoveAll")[part] {
+			t.Errorf("MoveAll does not come to %s", part)
+		}
+	}
+	// A step comes to both, too; but pages that are sent need them by themselves.
+	steps, sends := calledFrom(t, "HostStep"), false
+	for _, part := range ownParts(t, "MoveDo") {
+		called := calledFrom(t, part)
+		sends = sends || !steps[part] && !called["HostStep"] && called["HostFill"] && called["HostCopy"]
+	}
+	if !calledFrom(t, "MoveDo")["HostStep"] || !sends {
+		t.Error("MoveDo does not do steps on one host, and fill and copy pages on the other one")
 	}
 }
