@@ -7,6 +7,7 @@ import (
 	"go/token"
 	"go/types"
 	"path/filepath"
+	"slices"
 	"sync"
 	"testing"
 )
@@ -581,5 +582,29 @@ func TestWhatIsLeftIsASetOfPages(t *testing.T) {
 	}
 	if !calledFrom(t, "MoveDo")["HostStep"] || !sends {
 		t.Error("MoveDo does not do steps on one host, and fill and copy pages on the other one")
+	}
+}
+
+func TestMapsArePutTogether(t *testing.T) {
+	maps, frames := ownParts(t, "NestMaps"), ownParts(t, "NestFrames")
+	asked := append(ownParts(t, "NestOk"), "NestOk")
+	together := func(part string) bool {
+		return slices.Contains(frames, part) && !slices.Contains(asked, part)
+	}
+	if !slices.ContainsFunc(maps, together) {
+		t.Errorf("NestMaps comes to %v, NestFrames to %v, and nothing of that puts maps together for both", maps, frames)
+	}
+	slots := func(part string) bool {
+		return readsField(t, part, "Frame")
+	}
+	if !slices.ContainsFunc(frames, slots) {
+		t.Error("NestFrames does not come to the frames of slots")
+	}
+	for _, name := range []string{"NestMaps", "NestFrames"} {
+		for _, part := range []string{"NestWords", "HostView", "memFrom"} {
+			if calledFrom(t, name)[part] {
+				t.Errorf("%s comes to %s, and does not put maps together alone", name, part)
+			}
+		}
 	}
 }
